@@ -1,0 +1,1 @@
+"""Atomglass: patterns over texts."""
