@@ -1,0 +1,94 @@
+"""Some of the rules for the package's files: what a later change might break without any other test seeing it."""
+
+import ast
+import pathlib
+import re
+import unittest
+
+PACKAGE = pathlib.Path(__file__).resolve().parent.parent / "atomglass"
+FILES = sorted(PACKAGE.glob("**/*.py"))
+BUILTINS = set(
+    "len range enumerate zip min max sum abs sorted reversed int str bool bytes list tuple dict set frozenset "
+    "isinstance ord repr any all divmod Exception ValueError TypeError KeyError IndexError LookupError "
+    "ZeroDivisionError ArithmeticError OverflowError RuntimeError NotImplementedError AttributeError "
+    "StopIteration NotImplemented".split()
+)
+BARRED = (
+    "type|typing|typing_extensions|enum|Enum|IntEnum|StrEnum|Flag|IntFlag|Generic|Protocol|ABC|ABCMeta|namedtuple"
+    "|NamedTuple|TypedDict|TYPE_CHECKING|abstractmethod"
+)
+
+
+def trees():
+    return [(file.name, ast.parse(file.read_text())) for file in FILES]
+
+
+def bound_names(tree):
+    """All names that a file gives a meaning, at whatever place."""
+    names = set()
+    for node in ast.walk(tree):
+        if isinstance(node, (ast.FunctionDef, ast.ClassDef)):
+            names.add(node.name)
+        elif isinstance(node, ast.arg):
+            names.add(node.arg)
+        elif isinstance(node, ast.Name) and isinstance(node.ctx, ast.Store):
+            names.add(node.id)
+        elif isinstance(node, ast.ImportFrom):
+            names.update(alias.name for alias in node.names)
+    return names
+
+
+class Language(unittest.TestCase):
+    def test_the_folder_has_only_python_files(self):
+        found = [path.name for path in PACKAGE.iterdir() if path.name != "__pycache__"]
+        self.assertEqual(sorted(found), sorted(file.name for file in FILES))
+        self.assertIn("__init__.py", found)
+
+    def test_lines_and_signs(self):
+        for file in FILES:
+            text = file.read_text()
+            lines = text.split("\n")
+            self.assertLessEqual(len(lines), 400, file.name)
+            self.assertLessEqual(max(len(line) for line in lines), 120, file.name)
+            self.assertEqual(re.findall(r"[^\n -~]", text), [], file.name)
+            self.assertEqual(re.findall(rf"\b(?:{BARRED})\b", text), [], file.name)
+            self.assertEqual(re.findall(r"dataclass|overload|contextmanager", text), [], file.name)
+
+    def test_functions_are_short(self):
+        for name, tree in trees():
+            for node in ast.walk(tree):
+                if isinstance(node, ast.FunctionDef):
+                    self.assertLessEqual(node.end_lineno - node.lineno + 1, 40, (name, node.name))
+
+    def test_strings_hold_no_percent_sign(self):
+        for name, tree in trees():
+            for node in ast.walk(tree):
+                if isinstance(node, ast.Constant) and isinstance(node.value, str):
+                    self.assertNotIn("%", node.value, name)
+
+    def test_imports_are_from_the_package_alone(self):
+        for name, tree in trees():
+            for node in ast.walk(tree):
+                self.assertNotIsInstance(node, ast.Import, name)
+                if isinstance(node, ast.ImportFrom):
+                    self.assertTrue(node.level == 0 and node.module.startswith("atomglass."), name)
+
+    def test_names_are_own_ones_or_allowed_builtins(self):
+        for name, tree in trees():
+            known = bound_names(tree) | BUILTINS
+            for node in ast.walk(tree):
+                if isinstance(node, ast.Name):
+                    self.assertIn(node.id, known, name)
+            self.assertEqual(bound_names(tree) & BUILTINS, set(), name)
+
+    def test_any_all_and_the_like_take_lists(self):
+        # A class with an own == is to come; then these may no longer take a generator expression.
+        for name, tree in trees():
+            for node in ast.walk(tree):
+                if isinstance(node, ast.Call) and isinstance(node.func, ast.Name):
+                    if node.func.id in ("any", "all", "min", "max", "sum", "sorted"):
+                        self.assertFalse([one for one in node.args if isinstance(one, ast.GeneratorExp)], name)
+
+
+if __name__ == "__main__":
+    unittest.main()
