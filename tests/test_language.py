@@ -38,6 +38,27 @@ def bound_names(tree):
     return names
 
 
+def methods_and_fields():
+    """The names of all methods, and of all attributes that are assigned, in the whole package."""
+    methods, fields = set(), set()
+    for _, tree in trees():
+        for node in ast.walk(tree):
+            if isinstance(node, ast.ClassDef):
+                methods.update(one.name for one in node.body if isinstance(one, ast.FunctionDef))
+            elif isinstance(node, ast.Attribute) and isinstance(node.ctx, ast.Store):
+                fields.add(node.attr)
+    return methods, fields
+
+
+# What the document's interface lists: a name that is a method in one class may be an attribute in none.
+LISTED_METHODS = set(
+    "code names first ways toil ends stop takes kept go back_to pattern put change drop texts all_finds say".split()
+)
+LISTED_FIELDS = set(
+    "at word path most name tree groups begin end spans choices text steps busy entered place made sought".split()
+)
+
+
 class Language(unittest.TestCase):
     def test_the_folder_has_only_python_files(self):
         found = [path.name for path in PACKAGE.iterdir() if path.name != "__pycache__"]
@@ -81,8 +102,18 @@ class Language(unittest.TestCase):
                     self.assertIn(node.id, known, name)
             self.assertEqual(bound_names(tree) & BUILTINS, set(), name)
 
+    def test_no_name_is_both_a_method_and_an_attribute(self):
+        methods, fields = methods_and_fields()
+        self.assertEqual((methods | LISTED_METHODS) & (fields | LISTED_FIELDS), set())
+
+    def test_nothing_is_sorted_in_its_place(self):
+        # Way has an own ==.
+        for name, tree in trees():
+            for node in ast.walk(tree):
+                self.assertFalse(isinstance(node, ast.Attribute) and node.attr == "sort", name)
+
     def test_any_all_and_the_like_take_lists(self):
-        # A class with an own == is to come; then these may no longer take a generator expression.
+        # Way has an own ==: so these may not take a generator expression.
         for name, tree in trees():
             for node in ast.walk(tree):
                 if isinstance(node, ast.Call) and isinstance(node.func, ast.Name):
