@@ -4,7 +4,7 @@ The code of a part is laid once, as if nothing stood ahead of it, and put behind
 numbers of the rows that it leads to. So a part that is to be laid many times is gone through only once.
 """
 
-from atomglass.sets import settled, turned, with_twins
+from atomglass.sets import settled, signs_held, turned, with_twins
 from atomglass.trees import group_names, parts_of
 
 ALL_SIGNS = (("\n", "~"),)
@@ -165,3 +165,8 @@ def laid(tree, around):
 def code_of(tree):
     """The rows of the code of a tree without a fault, in a new list."""
     return laid(tree, Around(False, False, group_names(tree), 0)) + [("done",)]
+
+
+def reads_of(rows):
+    """For each row of a code the text of all signs with which a read goes on; "" for rows of other words."""
+    return [signs_held(row[1]) if row[0] == "read" else "" for row in rows]

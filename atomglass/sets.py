@@ -57,6 +57,11 @@ def holds(rows, sign):
     return any([rank(low) <= number <= rank(high) for low, high in rows])
 
 
+def signs_held(rows):
+    """All signs that settled rows hold, as a text."""
+    return "".join([SIGNS[rank(low):rank(high) + 1] for low, high in rows])
+
+
 def first_held(rows):
     """The sign of the least rank that the rows hold, or None."""
     lows = [rank(low) for low, high in rows]

@@ -19,6 +19,22 @@ BARRED = (
 )
 
 
+METHODS_OF_VALUES = set(
+    "append clear copy count endswith extend find get index insert isalnum isalpha isdigit islower isspace isupper "
+    "items join keys ljust lower lstrip partition pop remove replace reverse rfind rjust rpartition rsplit rstrip "
+    "setdefault split splitlines startswith strip update upper values zfill bit_length add discard swapcase".split()
+)
+UNUSED = set(
+    "register mro elements open input version_info with_traceback add_note attrgetter breakpoint builtins compile "
+    "copyright credits delattr dir eval exec exit gc getattr globals hasattr help id importlib license locals "
+    "methodcaller os quit setattr super type vars sys".split()
+)
+STATEMENTS = (
+    ast.FunctionDef, ast.ClassDef, ast.ImportFrom, ast.Assign, ast.AugAssign, ast.If, ast.While, ast.For, ast.Return,
+    ast.Break, ast.Continue, ast.Pass, ast.Raise, ast.Delete, ast.Try, ast.Expr,
+)
+
+
 def trees():
     return [(file.name, ast.parse(file.read_text())) for file in FILES]
 
@@ -101,6 +117,39 @@ class Language(unittest.TestCase):
                 if isinstance(node, ast.Name):
                     self.assertIn(node.id, known, name)
             self.assertEqual(bound_names(tree) & BUILTINS, set(), name)
+
+    def test_names_that_are_not_used(self):
+        for name, tree in trees():
+            self.assertEqual(bound_names(tree) & UNUSED, set(), name)
+            for bound in bound_names(tree):
+                self.assertFalse(bound.startswith("_") and not bound.endswith("__"), (name, bound))
+
+    def test_statements_and_expressions(self):
+        for name, tree in trees():
+            for node in ast.walk(tree):
+                if isinstance(node, ast.stmt):
+                    self.assertIsInstance(node, STATEMENTS, name)
+                self.assertNotIsInstance(node, (ast.GeneratorExp, ast.Yield, ast.Div, ast.NamedExpr), name)
+                if isinstance(node, ast.Constant):
+                    self.assertNotIsInstance(node.value, (float, complex), name)
+                if isinstance(node, ast.Compare) and isinstance(node.ops[0], (ast.Is, ast.IsNot)):
+                    self.assertIsInstance(node.comparators[0], ast.Constant, name)
+                    self.assertIn(node.comparators[0].value, (None, True, False), name)
+
+    def test_methods_are_own_ones_or_allowed_ones(self):
+        methods, _ = methods_and_fields()
+        for name, tree in trees():
+            for node in ast.walk(tree):
+                if isinstance(node, ast.Call) and isinstance(node.func, ast.Attribute):
+                    self.assertIn(node.func.attr, methods | METHODS_OF_VALUES, name)
+
+    def test_own_methods_have_names_of_their_own(self):
+        # Whatever a value of Python's has as a method or an attribute would be mistaken for it.
+        taken = set()
+        for value in ("", 0, [], {}, set(), b"", ()):
+            taken.update(dir(value))
+        methods, fields = methods_and_fields()
+        self.assertEqual({one for one in methods | fields if not one.startswith("__")} & taken, set())
 
     def test_no_name_is_both_a_method_and_an_attribute(self):
         methods, fields = methods_and_fields()

@@ -3,7 +3,7 @@
 import copy
 import unittest
 
-from atomglass.sets import common, first_held, holds, joined, marks, settled, turned, with_twins
+from atomglass.sets import common, first_held, holds, joined, marks, settled, signs_held, turned, with_twins
 from tests.things import GREAT, ORDER, SMALL, rng
 
 ALL = (("\n", "~"),)
@@ -116,6 +116,11 @@ class Rows(unittest.TestCase):
             held = held_by(rows)
             for sign in ORDER:
                 self.assertIs(holds(rows, sign), sign in held)
+
+    def test_signs_held_by_settled_rows(self):
+        for rows in SAMPLES:
+            self.assertEqual(signs_held(settled(rows)), held_by(rows))
+        self.assertEqual((signs_held(()), signs_held(ALL)), ("", ORDER))
 
     def test_first_held(self):
         for rows in SAMPLES:

@@ -27,6 +27,12 @@ def no_strings():
     ]
 
 
+def no_places(text):
+    """Whatever is no place of a text."""
+    things = no_strings() + ["", "0", "a", -1, -10 ** 20, len(text) + 1, len(text) + 2, 10 ** 20, [0], (0,), {0: 0}]
+    return [thing for thing in things if not (type(thing) is int and 0 <= thing <= len(text))]
+
+
 def rng(seed):
     """A row of numbers that is the same in each run."""
     return random.Random(seed)
