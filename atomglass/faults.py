@@ -1,5 +1,6 @@
 """The first fault of whatever is handed in as a tree."""
 
+from atomglass.errors import Bad
 from atomglass.signs import is_name, is_sign, is_whole, rank
 from atomglass.trees import (
     MOST_GROUPS, MOST_IN_CHOICE, MOST_IN_ROW, MOST_SET_PAIRS, MOST_TIMES, group_names, idle, parts_of,
@@ -214,3 +215,10 @@ def fault(whatever):
     if found is None and code_length(whatever) + 1 > MOST_ROWS:
         found = ("long", ())
     return found
+
+
+def check_tree(whatever):
+    """Refuses what has a fault."""
+    found = fault(whatever)
+    if found is not None:
+        raise Bad(found[0], found[1])

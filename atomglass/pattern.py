@@ -1,8 +1,7 @@
 """Patterns: trees without a fault, each with its code."""
 
 from atomglass.codes import code_of
-from atomglass.errors import Bad
-from atomglass.faults import fault
+from atomglass.faults import check_tree
 from atomglass.trees import group_names
 
 
@@ -10,9 +9,7 @@ class Pattern:
     """A tree without a fault; Bad where it has one."""
 
     def __init__(self, tree):
-        found = fault(tree)
-        if found is not None:
-            raise Bad(found[0], found[1])
+        check_tree(tree)
         self.tree = tree
         self.groups = len(group_names(tree))
         self.rows = code_of(tree)

@@ -15,6 +15,12 @@ FUNCTIONS = {
     "writer": {"show_pattern": "tree"},
     "codes": {"code_of": "tree"},
     "compare": {"stand_behind": "pattern, text", "compared": "one, other, *, most=200"},
+    "judge": {"judged": "pattern"},
+    "plainer": {"plainer": "tree"},
+    "finds": {"finds": "pattern, text, *, start=0, engine='walk'", "spots": "pattern, text, *, start=0, engine='table'",
+              "pieces": "pattern, text, *, engine='walk'", "put_together": "pieces, texts"},
+    "templates": {"read_template": "whatever", "filled": "pattern, way, text, parts",
+                  "replaced": "pattern, text, template, *, engine='walk'"},
 }
 
 # For each class its arguments, its methods with theirs, and the fields of an object made of the things behind them.
@@ -29,6 +35,7 @@ CLASSES = {
 }
 
 NUMBERS = {("walker", "MOST_STEPS"): 20000, ("table", "MOST_STATES"): 40, ("compare", "MOST_PAIRS"): 200}
+ENGINES = {"WALK": "walk", "THREADS": "threads", "TABLE": "table"}
 
 
 def file_of(name):
@@ -73,11 +80,17 @@ class Interface(unittest.TestCase):
         for (file, name), number in NUMBERS.items():
             self.assertEqual(getattr(file_of(file), name), number)
 
+    def test_engines(self):
+        for name, engine in ENGINES.items():
+            self.assertEqual(getattr(file_of("finds"), name), engine)
+
     def test_what_is_behind_a_star_is_handed_in_by_name_alone(self):
         pattern = file_of("pattern").Pattern(("sign", "a"))
         for call in (
             lambda: file_of("walker").Walker(pattern, "a").first(0, 5), lambda: file_of("table").Table(pattern, 5),
-            lambda: file_of("compare").compared(pattern, pattern, 5),
+            lambda: file_of("compare").compared(pattern, pattern, 5), lambda: file_of("finds").finds(pattern, "a", 0),
+            lambda: file_of("finds").spots(pattern, "a", 0), lambda: file_of("finds").pieces(pattern, "a", "walk"),
+            lambda: file_of("templates").replaced(pattern, "a", "", "walk"),
         ):
             with self.assertRaises(TypeError):
                 call()
