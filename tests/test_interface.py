@@ -1,4 +1,4 @@
-"""The interface: the names, arguments and kinds of values that stand in the document, as far as they are built."""
+"""The interface: the names, arguments and kinds of values that stand in the document."""
 
 import importlib
 import inspect
@@ -32,6 +32,11 @@ CLASSES = {
                                              "toil": "at, *, most=20000"}, ("text", "steps", "busy")),
     ("threads", "Threads"): ("pattern, text", {"first": "at", "ends": "at"}, ("entered",)),
     ("table", "Table"): ("pattern, *, most=40", {"stop": "text, at", "takes": "text", "kept": ""}, ()),
+    ("scan", "Scan"): ("pattern, text", {"go": "", "back_to": "at"}, ("place",)),
+    ("book", "Book"): ("most", {"pattern": "text", "kept": ""}, ("made",)),
+    ("page", "Page"): ("pattern", {"put": "at, text", "change": "at, text", "drop": "at", "texts": "", "all_finds": ""},
+                       ("sought",)),
+    ("desk", "Desk"): ("", {"say": "whatever"}, ()),
 }
 
 NUMBERS = {("walker", "MOST_STEPS"): 20000, ("table", "MOST_STATES"): 40, ("compare", "MOST_PAIRS"): 200}
@@ -71,6 +76,8 @@ class Interface(unittest.TestCase):
         made = {
             "Pattern": pattern, "Way": file_of("ways").Way(0, 1, (), ()), "Walker": file_of("walker").Walker(pattern, "a"),
             "Threads": file_of("threads").Threads(pattern, "a"), "Table": file_of("table").Table(pattern, most=3),
+            "Scan": file_of("scan").Scan(pattern, "a"), "Book": file_of("book").Book(1), "Page": file_of("page").Page(pattern),
+            "Desk": file_of("desk").Desk(),
         }
         for (_, name), (_, _, fields) in CLASSES.items():
             for field in fields:
