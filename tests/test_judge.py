@@ -59,7 +59,7 @@ class Judging(unittest.TestCase):
         code, told = pattern.code(), judged(pattern)
         self.assertIsInstance(told, tuple)
         if told[0] == "line":
-            self.assertEqual(told, ("line", sorted(all_unlike_pairs(code, "abcd\n"))), pattern.tree)
+            self.assertEqual(told, ("line", sorted(all_unlike_pairs(code, "abcdABC\n"))), pattern.tree)
         elif told[0] == "twice":
             self.assert_twice(code, told)
             reached = {row for text in texts for row, _ in behind(code, [(0, ())], text)}
